@@ -1,0 +1,1 @@
+"""Crossmarks: marks on strings that come down in families."""
