@@ -64,7 +64,7 @@ def of_other_kinds(thing):
             others += [False, True, 0, [], (None,)]
         else:
             others += [str(part), (part,), None, [], (), True, False]
-        found.extend([put(thing, path, other) for other in others])
+        found.extend([put(thing, path, other) for other in others if repr(other) != repr(part)])
     return found
 
 

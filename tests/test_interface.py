@@ -11,6 +11,14 @@ SIGNATURES = {
     ],
     "families": ["is_family(thing)", "founders(family)", "elder(family, member, side)"],
     "lines": ["is_line(thing)"],
+    "cases": ["is_seen(family, line, thing)", "is_case(thing)", "case_of(family, marks, *, gaps=(), seen=())"],
+    "things": ["things_of(case)", "values_of(case, thing)"],
+    "states": ["state_weight(case, state)", "states_of(case)", "full_sum(case)"],
+    "tables": [
+        "is_table(thing)", "joined(table, other)", "summed_out(table, thing)", "held_at(table, thing, value)",
+        "whole(table)",
+    ],
+    "casetables": ["tables_of(case)"],
 }
 
 
