@@ -67,18 +67,29 @@ def is_less(share, other):
     return share[0] * other[1] < other[0] * share[1]
 
 
-def total(shares):
-    """The sum of a list or tuple of shares."""
-    top = 0
+def greatest_place(shares):
+    """The place of the greatest of some shares, the first of alike ones."""
+    best = 0
+    for place in range(len(shares)):
+        if is_less(shares[best], shares[place]):
+            best = place
+    return best
+
+
+def common_bottom(shares):
+    """The least number that the bottom of each share divides."""
     bottom = 1
     for share in shares:
-        # Sums over thousands of states have few bottoms: the common one seldom grows, and one division ends it.
+        # Weights of thousands of states have few bottoms: the common one seldom grows.
         if bottom % share[1] != 0:
-            growth = share[1] // common_divisor(bottom, share[1])
-            top = top * growth
-            bottom = bottom * growth
-        top = top + share[0] * (bottom // share[1])
-    return share_of(top, bottom)
+            bottom = bottom * (share[1] // common_divisor(bottom, share[1]))
+    return bottom
+
+
+def total(shares):
+    """The sum of a list or tuple of shares."""
+    bottom = common_bottom(shares)
+    return share_of(sum([share[0] * (bottom // share[1]) for share in shares]), bottom)
 
 
 def product(shares):

@@ -15,6 +15,11 @@ FAMILIES = (
     (None, None, (1, 0), (0, 1), (3, 2)), (None, None, (0, 1), None, (2, 3)),
 )
 
+WIDE_FAMILIES = FAMILIES[3:] + (
+    (None, None, (0, 1), (0, 1), (0, 1)), (None, None, (0, 1), (0, 1), (2, 3)), (None, None, (0, 1), (0, 2), (0, 3)),
+    (None, None, (0, 1), (2, 0), (2, 1)),
+)
+
 
 def line(marks, *gaps):
     return (tuple(marks), tuple(gaps))
@@ -56,6 +61,30 @@ def random_case(chance, most_ways, families=FAMILIES):
 def random_cases(many, most_ways, seed=7, families=FAMILIES):
     chance = random.Random(seed)
     return [random_case(chance, most_ways, families) for _ in range(many)]
+
+
+def wide_case(chance, least_ways):
+    """A case of children and few kinds of founders, of no fewer ways than told and no more than five thousand."""
+    while True:
+        family = chance.choice(WIDE_FAMILIES)
+        marks = tuple([chance.choice(MARKS) for _ in range(chance.choice((1, 2, 2, 3, 3)))])
+        gaps = tuple([chance.choice(GAPS) for _ in marks[1:]])
+        places = list(itertools.product(range(len(family)), range(len(marks))))
+        chance.shuffle(places)
+        # Founders first: what is seen of them leaves room for more children and marks.
+        places = sorted(places, key=lambda place: family[place[0]] is not None)[:8]
+        seen = []
+        for member, mark in sorted(places):
+            pairs = sorted_pairs(len(marks[mark]))
+            seen.append((member, mark, tuple(sorted(chance.sample(pairs, chance.choice((1, 1, 1, 2)))))))
+        case = (family, (marks, gaps), tuple(seen))
+        if least_ways <= ways(case) <= 5000:
+            return case
+
+
+def wide_cases(many, least_ways, seed=7):
+    chance = random.Random(seed)
+    return [wide_case(chance, least_ways) for _ in range(many)]
 
 
 def plain_things(case):
@@ -116,3 +145,14 @@ def told(number):
     """A number of Python's own as a share."""
     number = Fraction(number)
     return (number.numerator, number.denominator)
+
+
+def bare(case):
+    """The case with nothing seen."""
+    return (case[0], case[1], ())
+
+
+def brief_cases(many, most_states=3000, seed=5):
+    """Cases whose states can all be gone through."""
+    found = [case for case in random_cases(many * 40, 5000, seed) if how_many_states(case) <= most_states]
+    return found[:many]

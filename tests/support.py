@@ -60,6 +60,8 @@ def of_other_kinds(thing):
         others = [{}, "", "a", [part], {0: part}, (part, part, part, part)]
         if isinstance(part, tuple):
             others += [list(part), dict(enumerate(part)), str(part), True, 0, part + ({},), ({},) + part]
+        elif isinstance(part, list):
+            others += [tuple(part), dict(enumerate(part)), str(part), None, True, 0, part + [{}], [{}] + part]
         elif part is None:
             others += [False, True, 0, [], (None,)]
         else:

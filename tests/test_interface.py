@@ -19,6 +19,11 @@ SIGNATURES = {
         "whole(table)",
     ],
     "casetables": ["tables_of(case)"],
+    "peeling": ["peeled(case, order)"],
+    "orders": ["need_order(case, thing)", "good_order(case)", "width(case, order)"],
+    "holding": ["held_weight(case, held)", "summed_over(case, things)"],
+    "lots": ["can_be(case, lot)", "least_lot(case)"],
+    "refuting": ["against(case)", "lets_against(case, thing)"],
 }
 
 
