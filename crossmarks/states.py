@@ -1,6 +1,7 @@
 """The states of a case, and their weights."""
 
 from crossmarks.cases import seen_of
+from crossmarks.errors import NoWeight
 from crossmarks.families import elder
 from crossmarks.rules import agrees, founder_share, gap_share, may_be
 from crossmarks.shares import HALF, NOUGHT, ONE, product, times, total
@@ -108,6 +109,14 @@ def all_ways(case):
 def states_of(case):
     """The rising list of (state, weight) of all states that weigh more than 0."""
     return sorted([(pairs + turns, weight) for pairs, turns, weight in all_ways(case)])
+
+
+def weighed_states(case):
+    """As states_of; NoWeight where the case can't be."""
+    rows = states_of(case)
+    if not rows:
+        raise NoWeight("the case can't be")
+    return rows
 
 
 def full_sum(case):

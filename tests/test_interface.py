@@ -24,6 +24,14 @@ SIGNATURES = {
     "holding": ["held_weight(case, held)", "summed_over(case, things)"],
     "lots": ["can_be(case, lot)", "least_lot(case)"],
     "refuting": ["against(case)", "lets_against(case, thing)"],
+    "carrying": ["thing_shares(case, thing)", "carries(case, member, mark)", "expected(case, member, mark, kind)"],
+    "likely": ["likeliest(case)", "within(case, *, share=(1, 1))"],
+    "descent": ["comes_from(case, state, member, side, mark)", "same_share(case, member, other, mark)"],
+    "fitting": ["weights_by(case, gap, shares)", "fitted(case, gap, shares)"],
+    "far": [
+        "far(share, other)", "far_along(shares)", "between(line, mark, mark2)", "near(share, other)",
+        "without_mark(case, mark)",
+    ],
 }
 
 

@@ -1,6 +1,7 @@
 """Point 14: papers, and what point 3 says of what can't be."""
 
 import copy
+import itertools
 import random
 import unittest
 
@@ -198,6 +199,13 @@ class LetsAgainstTest(Checks):
         self.assertEqual(least_lot(case), (0, 1))
         self.assertIs(lets_against(case, another_paper(case, chance, (0, 2))), True)
         self.assertIs(lets_against(case, another_paper(case, chance, (0, 1))), True)
+
+    def test_a_lot_that_does_not_rise(self):
+        chance = random.Random(57)
+        for case in unfit_cases():
+            for lot in itertools.permutations(least_lot(case)):
+                paper = another_paper(case, chance, lot)
+                self.assertIs(lets_against(case, paper), lot == least_lot(case))
 
     def test_a_lot_with_fewer_that_can_not_be(self):
         case = unfit_cases()[3]
