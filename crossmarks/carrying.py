@@ -1,9 +1,10 @@
 """What members may carry, with shares."""
 
 from crossmarks.errors import NoThing, NoWeight
-from crossmarks.holding import summed_over
+from crossmarks.holding import places_of, summed_over
 from crossmarks.plain import copied, is_below
 from crossmarks.shares import NOUGHT, over, share_of, times, total
+from crossmarks.states import weighed_states
 
 
 def thing_shares(case, thing):
@@ -21,14 +22,27 @@ def need_place(case, member, mark):
         raise NoThing((copied(member), copied(mark)))
 
 
+def pair_place(case, member, mark):
+    """Where the pair of a member and mark stands in each state of the case."""
+    return places_of(case, [("pair", member, mark)])[0]
+
+
+def carried_at(rows, place):
+    """The rising list of (pair, share), kinds sorted, of the pairs at one place of some (values, weight)."""
+    weights = {}
+    for values, weight in rows:
+        kinds = tuple(sorted(values[place]))
+        if kinds not in weights:
+            weights[kinds] = []
+        weights[kinds].append(weight)
+    whole_weight = total([weight for values, weight in rows])
+    return [(kinds, over(total(weights[kinds]), whole_weight)) for kinds in sorted(list(weights))]
+
+
 def carries(case, member, mark):
     """The rising list of (pair, share) of a member and mark, by kinds sorted; NoThing, then NoWeight."""
     need_place(case, member, mark)
-    shares = {}
-    for pair, share in thing_shares(case, ("pair", member, mark)):
-        kinds = tuple(sorted(pair))
-        shares[kinds] = total([share, shares.get(kinds, NOUGHT)])
-    return [(kinds, shares[kinds]) for kinds in sorted(shares)]
+    return carried_at(weighed_states(case), pair_place(case, member, mark))
 
 
 def expected(case, member, mark, kind):

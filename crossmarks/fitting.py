@@ -1,13 +1,8 @@
 """Which shares of a gap fit best what was seen."""
 
+from crossmarks.changes import with_gap
 from crossmarks.shares import greatest_place
 from crossmarks.states import full_sum
-
-
-def with_gap(case, gap, share):
-    """The case with another share as this gap's, the others as they stand."""
-    family, (marks, gaps), seen = case
-    return (family, (marks, gaps[:gap] + (share,) + gaps[gap + 1:]), seen)
 
 
 def weights_by(case, gap, shares):

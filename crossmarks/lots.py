@@ -25,6 +25,11 @@ def lots_of(many, size):
     return lots
 
 
+def lots_by_size(many):
+    """All lots of so many seen, by how many and then as they rise."""
+    return [lot for size in range(many + 1) for lot in lots_of(many, size)]
+
+
 def fitting_lot(case, places, state):
     """The lot of all that is seen that a state fits."""
     pairs = [state[place] for place in places]
@@ -53,10 +58,9 @@ def state_for(found, lot):
 
 def first_unfit(found, many):
     """The first lot, by how many and then as they rise, that no state found fits; None where each has one."""
-    for size in range(many + 1):
-        for lot in lots_of(many, size):
-            if state_for(found, lot) is None:
-                return lot
+    for lot in lots_by_size(many):
+        if state_for(found, lot) is None:
+            return lot
     return None
 
 

@@ -63,3 +63,22 @@ def width(case, order):
         most = max(most, len(joined_scope(scopes, thing)))
         scopes = scopes_behind(scopes, thing)
     return most
+
+
+def first_in(order, things):
+    """The first of some things in an order, None where there are none."""
+    for thing in order:
+        if thing in things:
+            return thing
+    return None
+
+
+def joining_things(case, order):
+    """By each thing the one whose peeling joins the table made for it, None where that is left without things."""
+    scopes = scopes_of(case)
+    joins = {}
+    for thing in order:
+        scopes = scopes_behind(scopes, thing)
+        # The table that was made stands last.
+        joins[thing] = first_in(order, scopes[-1])
+    return joins

@@ -32,6 +32,17 @@ SIGNATURES = {
         "far(share, other)", "far_along(shares)", "between(line, mark, mark2)", "near(share, other)",
         "without_mark(case, mark)",
     ],
+    "columns": ["are_rows(thing)", "crossings(rows, order)", "best_orders(rows)"],
+    "exchanges": ["exchanges_of(order)", "led(rows, order)"],
+    "alike": ["first_unlike(case, other)"],
+    "keep": ["Keep(case, order=None)"],
+    "texts": ["show_share(share)", "show_case(case)"],
+}
+METHODS = {
+    ("keep", "Keep"): [
+        "weight(self)", "see(self, member, mark, pairs)", "forget(self, member, mark)", "gap(self, number, share)",
+        "case(self)", "order(self)", "made(self)", "stands(self)", "__eq__(self, other)",
+    ],
 }
 
 
@@ -42,6 +53,13 @@ class InterfaceTest(unittest.TestCase):
             for row in wanted:
                 name = row.partition("(")[0]
                 self.assertEqual(name + str(inspect.signature(getattr(loaded, name))), row)
+
+    def test_methods_stand_in_the_class_itself(self):
+        for (module, name), wanted in METHODS.items():
+            owner = getattr(importlib.import_module("crossmarks." + module), name)
+            for row in wanted:
+                method = row.partition("(")[0]
+                self.assertEqual(method + str(inspect.signature(vars(owner)[method])), row)
 
 
 if __name__ == "__main__":

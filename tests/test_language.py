@@ -2,6 +2,7 @@
 
 import ast
 import builtins
+import functools
 import pathlib
 import re
 import unittest
@@ -25,6 +26,7 @@ LEFT_OUT = (ast.Global, ast.AsyncFunctionDef, ast.AsyncFor, ast.AsyncWith, ast.A
 EAGER = ("any", "all", "min", "max", "sum", "sorted")
 
 
+@functools.lru_cache
 def trees():
     return [(file, ast.parse(file.read_text())) for file in FILES]
 
@@ -32,6 +34,11 @@ def trees():
 def nodes(kind):
     """All nodes of a kind, each with its file."""
     return [(file.name, node) for file, tree in trees() for node in ast.walk(tree) if isinstance(node, kind)]
+
+
+def own_methods():
+    """The names of all methods of the package."""
+    return {node.name for name, owner in nodes(ast.ClassDef) for node in owner.body if isinstance(node, ast.FunctionDef)}
 
 
 def bound_names(tree):
@@ -141,9 +148,34 @@ class LanguageTest(unittest.TestCase):
                 self.assertIn(node.id, BUILTINS, (name, node.lineno))
 
     def test_methods(self):
+        own = own_methods()
+        self.assertEqual(own & METHODS, set())
         for name, node in nodes(ast.Call):
             if isinstance(node.func, ast.Attribute):
-                self.assertIn(node.func.attr, METHODS, (name, node.lineno))
+                self.assertIn(node.func.attr, METHODS | own, (name, node.lineno))
+
+    def test_no_name_is_a_method_and_an_attribute(self):
+        own = own_methods()
+        stored = {node.attr for name, node in nodes(ast.Attribute) if isinstance(node.ctx, ast.Store)}
+        self.assertEqual(stored & (own | METHODS), set())
+        for name, node in nodes(ast.Attribute):
+            self.assertIn(node.attr, stored | own | METHODS, (name, node.lineno))
+
+    def test_double_underscores(self):
+        for name, node in nodes(ast.FunctionDef):
+            if node.name.startswith("_"):
+                self.assertIn(node.name, ("__init__", "__eq__"), name)
+
+    def test_functions_of_tables_are_named_first(self):
+        for name, node in nodes(ast.Call):
+            self.assertIsInstance(node.func, (ast.Name, ast.Attribute), (name, node.lineno))
+
+    def test_handlers(self):
+        own = {node.name for name, node in nodes(ast.ClassDef) if name == "errors.py"}
+        for name, node in nodes(ast.ExceptHandler):
+            caught = node.type.elts if isinstance(node.type, ast.Tuple) else [node.type]
+            for one in caught:
+                self.assertIn(one.id, own, (name, node.lineno))
 
     def test_eager_builtins_take_lists(self):
         for name, node in nodes(ast.Call):
