@@ -37,12 +37,18 @@ SIGNATURES = {
     "alike": ["first_unlike(case, other)"],
     "keep": ["Keep(case, order=None)"],
     "texts": ["show_share(share)", "show_case(case)"],
+    "reader": ["read_share(text)", "read_case(text)"],
+    "programs": ["is_program(thing)"],
+    "walker": ["walked(case, program)"],
+    "machine": ["run_by_peeling(case, program)"],
+    "desk": ["Desk()"],
 }
 METHODS = {
     ("keep", "Keep"): [
         "weight(self)", "see(self, member, mark, pairs)", "forget(self, member, mark)", "gap(self, number, share)",
         "case(self)", "order(self)", "made(self)", "stands(self)", "__eq__(self, other)",
     ],
+    ("desk", "Desk"): ["say(self, text)"],
 }
 
 
